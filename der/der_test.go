@@ -609,7 +609,7 @@ func TestShared(t *testing.T) { // P1: few slices, and more elements than can be
 	der.AsList(v)
 	der.List([]api.Value{v})
 	big := leaf(4, make([]byte, 1<<20)...)
-	for range 30 {
+	for range 16 { // 64 GiB, if it were copied
 		big = list(big, big)
 	}
 	der.List([]api.Value{big})
