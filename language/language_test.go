@@ -18,7 +18,7 @@ const library = " bytes cmp container/heap errors iter maps math math/bits slice
 const longest = 60 // lines of a function
 
 // packages is the folders of the program.
-const packages = "api clone text sample der catalog certificate chain keystore settings blocks suitespec endpoint executable pattern packages handshake finding identity asset rule verdict exception negotiate downgrade lifetime exposure change estate conversation policy need order window plan proof planner job renewal host runner watch reopen gone ledger journal report script audit"
+const packages = "api clone graph text sample der catalog certificate chain keystore settings blocks suitespec endpoint executable pattern packages handshake finding identity asset rule verdict exception negotiate downgrade lifetime exposure change estate conversation policy need order window plan proof planner job renewal host runner watch reopen gone ledger journal report script audit"
 
 // sources calls a function with each Go file of the program that is not a test.
 func sources(t *testing.T, f func(path string, text []byte, set *token.FileSet, file *ast.File)) {
