@@ -66,3 +66,18 @@ func Estate() api.Estate {
 func Item(name string, kind int) api.Item {
 	return api.Item{Name: name, Kind: kind, Purpose: api.PurposeSign, Links: []api.Link{{Use: api.Use{Alg: api.SHA1}, Day: 1}}, Until: 200}
 }
+
+// Plan returns a plan for the estate: db gets another identity, below a new anchor of app and web, and gives up its old one and a suite.
+func Plan() api.Plan {
+	return api.Plan{
+		Changes: []api.Change{
+			{Endpoint: 0, Kind: api.AddAnchor, Number: 7},
+			{Endpoint: 2, Kind: api.AddAnchor, Number: 7},
+			{Endpoint: 1, Kind: api.AddIdentity, At: 1, Identity: Identity("db", RSA(), 9, 7)},
+			{Endpoint: 1, Kind: api.DropIdentity, Number: 2},
+			{Endpoint: 1, Kind: api.DropSuite, Number: 2},
+		},
+		Required: []api.Required{{First: 0, Then: 2}, {First: 1, Then: 2}, {First: 2, Then: 3}},
+		Days:     []int{1, 1, 2, 3, 3},
+	}
+}
