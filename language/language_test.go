@@ -9,6 +9,7 @@ import (
 	"go/token"
 	"os"
 	"path/filepath"
+	"slices"
 	"strings"
 	"testing"
 )
@@ -17,8 +18,8 @@ const library = " bytes cmp container/heap errors iter maps math math/bits slice
 
 const longest = 60 // lines of a function
 
-// packages is the folders of the program.
-const packages = "api clone graph text sample der catalog certificate chain keystore settings blocks suitespec endpoint executable pattern packages handshake finding identity asset rule verdict exception negotiate downgrade lifetime exposure change estate conversation policy need order window plan proof planner job renewal host runner watch reopen gone ledger journal report script audit"
+// packages is the folders of the program: those that help all layers, the layers in their order, and what only tests use.
+const packages = "api clone graph text der catalog certificate chain keystore settings blocks suitespec endpoint executable pattern packages handshake finding identity asset rule verdict exception negotiate downgrade lifetime exposure change estate conversation policy need order window plan proof planner job renewal host runner watch reopen gone ledger journal report script audit sample"
 
 // sources calls a function with each Go file of the program that is not a test.
 func sources(t *testing.T, f func(path string, text []byte, set *token.FileSet, file *ast.File)) {
@@ -93,6 +94,20 @@ func TestVariables(t *testing.T) {
 				if v := s.(*ast.ValueSpec); len(v.Values) != len(v.Names) {
 					t.Errorf("%s: %s has no initial value", path, v.Names[0].Name)
 				}
+			}
+		}
+	})
+}
+
+// TestLayers checks that each package imports only such as stand before it in the list.
+func TestLayers(t *testing.T) {
+	all := strings.Fields(packages)
+	sources(t, func(path string, _ []byte, _ *token.FileSet, file *ast.File) {
+		folder := filepath.Base(filepath.Dir(path))
+		for _, i := range file.Imports {
+			used, own := strings.CutPrefix(strings.Trim(i.Path.Value, `"`), "cipherplan/")
+			if own && slices.Index(all, used) >= slices.Index(all, folder) {
+				t.Errorf("%s imports %s", path, used)
 			}
 		}
 	})
