@@ -173,6 +173,14 @@ func TestBuild(t *testing.T) { // P4.3
 	if got, e := chain.Build(l[0], pool[:8], []int{sample.Anchor}, []int{api.SHA256}, day, "web"); e != api.ErrNone || len(got) > 0 {
 		t.Errorf("none: %v, %v", got, e)
 	}
+	for _, x := range []struct{ from, to int }{{day, day + 1}, {0, day}, {day + 1, day + 2}} {
+		c := sample.Leaf("web", sample.RSA(), 1, sample.Anchor)
+		c.From, c.To = x.from, x.to
+		got, e := chain.Build(sample.Sealed(c, sample.Anchor), nil, []int{sample.Anchor}, []int{api.SHA256}, day, "web")
+		if want := x.from <= day && day < x.to; (len(got) == 1) != want || (e == api.OK) != want {
+			t.Errorf("%v: %v, %v", x, got, e)
+		}
+	}
 	alone := sample.Leaf("web", sample.RSA(), 1, sample.Anchor)
 	if got, e := chain.Build(alone, l, []int{sample.Anchor}, []int{api.SHA256}, day, "web"); e != api.OK || len(got) != 1 {
 		t.Errorf("alone: %v, %v", got, e)

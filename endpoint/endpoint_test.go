@@ -204,13 +204,10 @@ func TestSettings(t *testing.T) { // P9.2
 	if e, n, f := from("[web]\nmost = 9\nmost = 2\n[x]\nleast=7\n[web]\nmost = 3", "web"); f != api.OK || n != 0 || !endpoint.Same(e, bare(func(e *api.Endpoint) { e.Most = 3 })) {
 		t.Errorf("%v, %d, %v", e, n, f)
 	}
-	if e, _, f := from("[web]\nsuites =", "web"); f != api.OK || len(e.Suites) > 0 {
-		t.Errorf("%v, %v", e, f)
-	}
 	for text, want := range map[string]struct {
 		n int
 		e api.Errno
-	}{"": {0, api.ErrNone}, "most = 1": {0, api.ErrNone}, "[web]": {0, api.ErrNone}, "[we]\nmost=1": {0, api.ErrNone}, "[web]\nmost = 1\nMost = 2": {3, api.ErrWord}, "[web]\nleast = 0\nmost = 0\nleast = 1": {3, api.ErrValue}, "[web]\nmost = 0\nleast = 0\nmost = 0": {3, api.ErrValue}, "[web]\nanchors = 1\t2": {2, api.ErrValue}} {
+	}{"": {0, api.ErrNone}, "most = 1": {0, api.ErrNone}, "[web]": {0, api.ErrNone}, "[we]\nmost=1": {0, api.ErrNone}, "[web]\nmost = 1\nMost = 2": {3, api.ErrWord}, "[web]\nleast = 0\nmost = 0\nleast = 1": {3, api.ErrValue}, "[web]\nmost = 0\nleast = 0\nmost = 0": {3, api.ErrValue}, "[web]\nsuites =": {2, api.ErrValue}, "[web]\nleast =": {2, api.ErrValue}, "[web]\norder =": {2, api.ErrValue}, "[web]\nanchors = 1\t2": {2, api.ErrValue}} {
 		if _, n, f := from(text, "web"); n != want.n || f != want.e {
 			t.Errorf("%q: %d, %v", text, n, f)
 		}

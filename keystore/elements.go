@@ -18,11 +18,11 @@ func element(e api.Entry) api.Value {
 	return der.List([]api.Value{der.Text(e.Alias), key, der.Int(e.KeyId), der.Bool(e.Secret), der.List(chain)})
 }
 
-// read returns the entry of an element: ErrForm, if it is none, ErrCert, if it has a certificate that is not valid.
-func read(v api.Value) (api.Entry, api.Errno) {
+// read returns the entry, valid or not, of an element.
+func read(v api.Value) (api.Entry, bool) {
 	l, e := der.AsList(v)
 	if e != api.OK || len(l) != 5 {
-		return api.Entry{}, api.ErrForm
+		return api.Entry{}, false
 	}
 	alias, e1 := der.AsText(l[0])
 	key, e2 := readUse(l[1])
@@ -31,10 +31,10 @@ func read(v api.Value) (api.Entry, api.Errno) {
 	chain, e5 := readChain(l[4])
 	for _, e := range []api.Errno{e1, e2, e3, e4, e5} {
 		if e != api.OK {
-			return api.Entry{}, e
+			return api.Entry{}, false
 		}
 	}
-	return api.Entry{Alias: alias, Key: key, KeyId: id, Secret: secret, Chain: chain}, api.OK
+	return api.Entry{Alias: alias, Key: key, KeyId: id, Secret: secret, Chain: chain}, true
 }
 
 // readUse returns the use of a list of two numbers.
@@ -51,7 +51,7 @@ func readUse(v api.Value) (api.Use, api.Errno) {
 	return api.Use{Alg: alg, Bits: bits}, api.OK
 }
 
-// readChain returns the certificates of a list; ErrForm comes before ErrCert.
+// readChain returns the certificates of a list. For one that is not valid the zero one stands, which is not, either: this error comes later.
 func readChain(v api.Value) ([]api.Certificate, api.Errno) {
 	l, e := der.AsList(v)
 	if e != api.OK {
@@ -60,14 +60,11 @@ func readChain(v api.Value) ([]api.Certificate, api.Errno) {
 	var chain []api.Certificate
 	for _, v := range l {
 		b, _ := der.Encode(v)
-		c, f := certificate.Decode(b)
-		if f == api.ErrForm {
-			return nil, f
-		}
-		if f != api.OK {
-			e = f
+		c, e := certificate.Decode(b)
+		if e == api.ErrForm {
+			return nil, e
 		}
 		chain = append(chain, c)
 	}
-	return chain, e
+	return chain, api.OK
 }

@@ -158,6 +158,7 @@ func TestSet(t *testing.T) { // P6.3
 		want          []api.Setting
 	}{
 		"the last one": {"a", "x", []api.Setting{l[0], l[1], l[2], set("a", "x", "new", 7), l[4]}},
+		"at the front": {"", "x", []api.Setting{set("", "x", "new", 1), l[1], l[2], l[3], l[4]}},
 		"behind":       {"a", "y", []api.Setting{l[0], l[1], l[2], l[3], set("a", "y", "new", 0), l[4]}},
 		"first":        {"", "y", []api.Setting{l[0], set("", "y", "new", 0), l[1], l[2], l[3], l[4]}},
 		"at the end":   {"d", "x", append(slices.Clone(l), set("d", "x", "new", 0))},
