@@ -132,6 +132,19 @@ func TestErrors(t *testing.T) { // P16.1 and P16.2
 			t.Errorf("%d: %v, %v", i, c, e)
 		}
 	}
+	var many []api.Finding
+	for i := range 401 {
+		many = append(many, at(api.FindMost, i, api.Use{}, 3, ""))
+	}
+	for _, bad := range [][]api.Finding{many, {l[0], l[0]}, {{}}} {
+		_, e := asset.Facts(bad, api.Entity{}, 0, 0)
+		if _, f := asset.Conflicts(bad, api.Entity{}, 1); e != api.ErrFinding || f != api.ErrFinding {
+			t.Errorf("%d findings: %v, %v", len(bad), e, f)
+		}
+	}
+	if f := facts(t, many[:400], 399, 399); len(f) != 1 {
+		t.Errorf("%v", f)
+	}
 	if c, e := asset.Conflicts(twice, none, 0); e != api.ErrFinding || len(c) > 0 {
 		t.Errorf("%v, %v", c, e)
 	}
@@ -190,6 +203,11 @@ func TestConflicts(t *testing.T) { // P16.2
 		}
 	}
 	l := norm(t, at(api.FindMost, 1, api.Use{}, 1, ""), at(api.FindMost, 1, api.Use{}, 2, ""), at(api.FindMost, 1, api.Use{}, 3, ""))
+	for _, confidence := range []int{1, 100} {
+		if c, e := asset.Conflicts(l, all(l), confidence); e != api.OK || (len(c) == 3) != (confidence == 1) {
+			t.Errorf("%d: %v, %v", confidence, c, e)
+		}
+	}
 	want := []api.Conflict{{First: 0, Second: 1}, {First: 0, Second: 2}, {First: 1, Second: 2}}
 	if c, e := asset.Conflicts(l, api.Entity{Findings: []int{2, 0, 1, 0}}, 50); e != api.OK || !slices.Equal(c, want) {
 		t.Errorf("%v, %v", c, e)
@@ -257,6 +275,8 @@ func TestMemory(t *testing.T) { // R3, and facts are those of entities
 	e, _ := identity.Entities(l, 0)
 	f, _ := asset.Facts(l, e[0], 1, 1)
 	apart(t, "Facts", func() []api.Fact { f, _ := asset.Facts(l, e[0], 1, 1); return f }, l, e)
+	odd := api.Entity{Findings: []int{1, 0}}
+	apart(t, "Facts", func() []api.Fact { f, _ := asset.Facts(l, odd, 1, 1); return f }, l, odd)
 	apart(t, "Conflicts", func() []api.Conflict { c, _ := asset.Conflicts(l, e[0], 1); return c }, l, e)
 	apart(t, "Uses", func() []api.Use { return asset.Uses(f, "tls") }, f)
 	apart(t, "Changes", func() []api.Fact { came, _ := asset.Changes(nil, f); return came }, f)

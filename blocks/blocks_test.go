@@ -293,6 +293,10 @@ func TestEndless(t *testing.T) { // R1: statements within themselves, shared, or
 	if !blocks.Same(shared, shared) || blocks.Check(shared) != api.ErrLimit {
 		t.Error("shared")
 	}
+	twice := []api.Block{open(0, w("a"), leaf(0, "?")), {Words: w("a"), Open: true, Within: shared}, {Words: w("a"), Open: true, Within: shared}}
+	if e := blocks.Check(twice); e != api.ErrForm {
+		t.Error(e)
+	}
 	far := deep(200000)
 	if blocks.Depth(far) != 200000 || blocks.Check(far) != api.ErrLimit || !blocks.Same(far, far) || len(blocks.Find(far, "a")) != 1 {
 		t.Error("deep")

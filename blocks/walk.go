@@ -112,9 +112,8 @@ func size(l []api.Block, sizes map[place]int) int {
 	return n
 }
 
-// copied returns statements that can be copied in memory of their own.
-func copied(l []api.Block) []api.Block {
-	l = slices.Clone(l)
+// detach puts what is in a list of statements that can be copied into memory of its own.
+func detach(l []api.Block) {
 	for todo := [][]api.Block{l}; len(todo) > 0; {
 		list := todo[len(todo)-1]
 		todo = todo[:len(todo)-1]
@@ -127,5 +126,4 @@ func copied(l []api.Block) []api.Block {
 			}
 		}
 	}
-	return l
 }

@@ -200,6 +200,9 @@ func TestLongest(t *testing.T) { // P4.3: a chain of MaxChain certificates is fo
 	}
 	for last, want := range map[int]int{9: 8, 10: 0} {
 		l, e := chain.Build(leaf, pool, []int{last}, []int{api.SHA256}, day, "web")
+		if f := chain.Check(append([]api.Certificate{leaf}, pool[:last-2]...), []int{last}, []int{api.SHA256}, day, "web"); (f == api.OK) != (want > 0) || f != api.OK && f != api.ErrLimit {
+			t.Errorf("%d: %v", last, f)
+		}
 		if len(l) != want || (e == api.OK) != (want > 0) {
 			t.Errorf("%d: %d, %v", last, len(l), e)
 		}

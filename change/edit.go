@@ -114,7 +114,7 @@ func (d *edit) dropIdentity() api.Errno {
 	if slices.ContainsFunc(d.endpoint.Identities[at+1:], has) {
 		return api.ErrTwice
 	}
-	d.back = api.Change{Kind: api.AddIdentity, At: at, Identity: clone.Identity(d.endpoint.Identities[at])}
+	d.back = api.Change{Kind: api.AddIdentity, At: at, Identity: d.endpoint.Identities[at]}
 	d.endpoint.Identities = slices.Delete(d.endpoint.Identities, at, at+1)
 	return api.OK
 }

@@ -62,6 +62,13 @@ func TestAll(t *testing.T) { // P26.1
 	if e != api.OK || !slices.Equal(l, []api.Outcome{{}, out(3, 10), {}}) || !slices.Equal(broken, []int{0, 2}) {
 		t.Errorf("%v, %v, %v", l, broken, e)
 	}
+	for day, want := range map[int]int{0: 0, api.MaxDay: 3} {
+		_, broken, e := conversation.All(sample.Estate(), day)
+		m, f := conversation.Methods(sample.Estate(), 0, day)
+		if e != api.OK || len(broken) != want || f != api.OK || (len(m) == 0) != (want > 0) {
+			t.Errorf("%d: %v, %v, %v, %v", day, broken, e, m, f)
+		}
+	}
 	l, broken, e = conversation.All(sample.Estate(), 50)
 	if e != api.OK || !slices.Equal(l, slices.Repeat([]api.Outcome{out(3, 10)}, 3)) || len(broken) > 0 {
 		t.Errorf("%v, %v, %v", l, broken, e)

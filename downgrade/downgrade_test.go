@@ -101,6 +101,13 @@ func TestErrors(t *testing.T) { // P21.1 and P21.2
 			t.Errorf("%d: %v, %v, %v", i, e, f, g)
 		}
 	}
+	for _, day := range []int{0, api.MaxDay} {
+		for _, weak := range []int{0, api.MaxStrength} {
+			if l, e := downgrade.All(client(nothing), server(nothing), day, weak); e != api.OK || (len(l) > 0) != (day == 0) {
+				t.Errorf("%d, %d: %v, %v", day, weak, l, e)
+			}
+		}
+	}
 	if d, e := downgrade.Down(client(nothing), server(nothing), bad, nil, api.Owners{}, 1, 1); e != api.ErrRule || len(d) > 0 {
 		t.Errorf("%v, %v", d, e)
 	}

@@ -166,6 +166,7 @@ func TestRead(t *testing.T) { // P9.2
 		"keys":     {[]string{"keys = b a"}, func(e *api.Endpoint) { e.Identities = []api.Identity{ids[1], ids[0]} }},
 		"four":     {[]string{"keys = a a  a   a"}, func(e *api.Endpoint) { e.Identities = slices.Repeat(ids[:1], 4) }},
 		"anchors":  {[]string{"anchors = 7 2147483648 0"}, func(e *api.Endpoint) { e.Anchors = []int{0, 7, api.MaxKey} }},
+		"sixteen":  {[]string{"anchors = 15 14 13 12 11 10 9 8 7 6 5 4 3 2 1 0"}, func(e *api.Endpoint) { e.Anchors = []int{0, 1, 2, 3, 4, 5, 6, 7, 8, 9, 10, 11, 12, 13, 14, 15} }},
 		"hashes":   {[]string{"hashes = sha384 md5"}, func(e *api.Endpoint) { e.Hashes = []int{1, 4} }},
 		"none":     {[]string{"hashes = ", "anchors = ", "keys = "}, nothing},
 	} {
@@ -207,7 +208,7 @@ func TestSettings(t *testing.T) { // P9.2
 	for text, want := range map[string]struct {
 		n int
 		e api.Errno
-	}{"": {0, api.ErrNone}, "most = 1": {0, api.ErrNone}, "[web]": {0, api.ErrNone}, "[we]\nmost=1": {0, api.ErrNone}, "[web]\nmost = 1\nMost = 2": {3, api.ErrWord}, "[web]\nleast = 0\nmost = 0\nleast = 1": {3, api.ErrValue}, "[web]\nmost = 0\nleast = 0\nmost = 0": {3, api.ErrValue}, "[web]\nsuites =": {2, api.ErrValue}, "[web]\nleast =": {2, api.ErrValue}, "[web]\norder =": {2, api.ErrValue}, "[web]\nanchors = 1\t2": {2, api.ErrValue}} {
+	}{"": {0, api.ErrNone}, "most = 1": {0, api.ErrNone}, "[web]": {0, api.ErrNone}, "[we]\nmost=1": {0, api.ErrNone}, "[web]\nmost = 1\nMost = 2": {3, api.ErrWord}, "[web]\nleast = 0\nmost = 0\nleast = 1": {3, api.ErrValue}, "[web]\nmost = 0\nleast = 0\nmost = 0": {3, api.ErrValue}, "[web]\nsuites =": {2, api.ErrValue}, "[web]\nx = 1": {2, api.ErrWord}, "[web]\nleast =": {2, api.ErrValue}, "[web]\norder =": {2, api.ErrValue}, "[web]\nanchors = 1\t2": {2, api.ErrValue}} {
 		if _, n, f := from(text, "web"); n != want.n || f != want.e {
 			t.Errorf("%q: %d, %v", text, n, f)
 		}

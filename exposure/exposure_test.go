@@ -111,6 +111,8 @@ func TestRisks(t *testing.T) { // P23.1
 		"items later":   {nothing, "forbid sha1 from 201", 300, 0, "[]"},
 		"items at once": {nothing, "forbid sha1 for sign from 200", 200, 0, "[{4 0 0} {4 1 0}]"},
 		"one item":      {func(e *api.Estate) { e.Items[1].Links[0].Use.Alg = api.SHA256 }, "forbid sha1 for sign", 200, 0, "[{4 0 0}]"},
+		"the last day":  {func(e *api.Estate) { e.Edges = nil }, "forbid sha1", api.MaxDay, 0, "[{4 0 0} {4 1 0}]"},
+		"the first day": {nothing, "forbid aesgcm", 0, 0, "[{2 0 10} {2 1 10} {2 2 10}]"},
 		"not trusted":   {nothing, "", sample.Last, 0, "[{1 0 0} {1 1 0} {1 2 0}]"},
 	} {
 		l, e := exposure.Risks(with(x.f), policy(t, x.text), nil, api.Owners{}, x.day, x.weak)
@@ -145,12 +147,12 @@ func TestErrors(t *testing.T) { // P23.1 and P23.4
 		}
 	}
 	for _, edge := range []int{-1, 3} {
-		if _, _, e := exposure.First(sample.Estate(), api.Policy{}, nil, api.Owners{}, edge, 0, []int{-1}); e != api.ErrNone {
+		if day, ok, e := exposure.First(sample.Estate(), api.Policy{}, nil, api.Owners{}, edge, 0, []int{-1}); e != api.ErrNone || day != 0 || ok {
 			t.Errorf("%d: %v", edge, e)
 		}
 	}
 	for _, days := range [][]int{{-1}, {1, api.MaxDay + 1}} {
-		if _, _, e := exposure.First(sample.Estate(), policy(t, "forbid any"), nil, api.Owners{}, 0, 0, days); e != api.ErrRange {
+		if day, ok, e := exposure.First(sample.Estate(), policy(t, "forbid any"), nil, api.Owners{}, 0, 0, days); e != api.ErrRange || day != 0 || ok {
 			t.Errorf("%v: %v", days, e)
 		}
 	}
@@ -253,6 +255,17 @@ func TestWeak(t *testing.T) { // P23.2
 	want := []api.Fact{{Entity: 0, Subject: "tls", Kind: api.FindUse, Use: md5(), Finding: 3}, {Entity: 4, Subject: "tls", Kind: api.FindUse, Use: md5(), Finding: 4}}
 	if f, e := exposure.Weak(l, 5, 4, 10, policy(t, "forbid md5 for sign from 4"), 2); e != api.OK || !slices.Equal(f, want) {
 		t.Errorf("%v, %v", f, e)
+	}
+	other := use("a", 2, 3, api.FindUse)
+	other.Subject = "zzz"
+	older := use("a", 2, 3, api.FindMost)
+	older.Use, older.Number = api.Use{}, 3
+	more := norm(t, append(slices.Clone(l), other, older)...)
+	if f, e := exposure.Weak(more, 5, 3, 0, policy(t, "forbid md5"), 4); e != api.OK || len(f) != 2 || f[1].Subject != "zzz" {
+		t.Errorf("%v, %v", f, e)
+	}
+	if ok, e := exposure.Holds(more, 5, 3, 0, fact("a")); !ok || e != api.OK {
+		t.Errorf("%v, %v", ok, e)
 	}
 	if f, e := exposure.Weak(l, 5, 3, 10, policy(t, "forbid md5 for sign from 4"), 2); e != api.OK || len(f) > 0 {
 		t.Errorf("%v, %v", f, e)

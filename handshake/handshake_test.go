@@ -50,6 +50,7 @@ func TestMessages(t *testing.T) { // P13.1
 	}{
 		{api.Choice{Version: 3, Suite: 10, KeyId: 7}, []byte{2, 3, 0, 10, 0, 0, 0, 7}},
 		{api.Choice{Version: 1, Suite: 65535, KeyId: api.MaxKey}, []byte{2, 1, 255, 255, 128, 0, 0, 0}},
+		{api.Choice{Version: 4, Suite: 1}, []byte{2, 4, 0, 1, 0, 0, 0, 0}},
 		{api.Choice{Version: 4, KeyId: 0x01020304}, []byte{2, 4, 0, 0, 1, 2, 3, 4}},
 	} {
 		b, e := handshake.EncodeChoice(x.c)

@@ -60,6 +60,7 @@ func TestEntities(t *testing.T) { // P15.1
 		"the row skips the joined":     {3, []api.Finding{at("a", 0, 1), at("a", 0, 4), at("a", 0, 7), at("a", 5, 4)}, "[[0 1 2 3]]"},
 		"the row skips what is joined": {2, []api.Finding{at("a", 0, 1), at("a", 0, 2), at("a", 0, 3), at("a", 5, 4), at("a", 0, 6), at("a", 0, 7), at("a", 0, 9)}, "[[0] [1 2 3 6] [4 5]]"},
 		"over joined ones":             {4, []api.Finding{at("a", 0, 0), at("a", 0, 5), at("a", 5, 9)}, "[[0] [1 2]]"},
+		"behind a joined one":          {2, []api.Finding{at("a", 1, 0), at("a", 0, 1), at("a", 0, 3)}, "[[0 2] [1]]"},
 		"hosts apart":                  {9, []api.Finding{at("a", 0, 1), at("b", 0, 1)}, "[[0] [1]]"},
 		"by the machine":               {9, []api.Finding{at("a", 1, 1), at("b", 1, 1), at("a", 0, 1), at("b", 0, 1)}, "[[0 1 2 3]]"},
 	} {
@@ -111,6 +112,16 @@ func TestErrors(t *testing.T) { // P15.1 to P15.3
 	}
 	if _, f := identity.Touched(nil, api.MaxGap, api.Finding{}); f != api.ErrFinding {
 		t.Error(f)
+	}
+}
+
+func TestMost(t *testing.T) { // P15.1: a list of MaxFindings
+	var l []api.Finding
+	for i := range 400 {
+		l = append(l, at("a", 0, i))
+	}
+	if e, f := identity.Entities(l, 1); f != api.OK || len(e) != 1 || len(e[0].Findings) != 400 {
+		t.Errorf("%d, %v", len(e), f)
 	}
 }
 

@@ -70,14 +70,14 @@ func TestItems(t *testing.T) { // P22.1 to P22.3
 		p := parsed(t)
 		n, e := lifetime.Links(p, x.i)
 		day, ok, f := lifetime.Fails(p, x.i)
-		if !ok && day == 0 {
+		if day == 0 {
 			day = none
 		}
 		latest, ok2, g := lifetime.Latest(p, x.i)
-		if !ok2 && latest == 0 {
+		if latest == 0 {
 			latest = none
 		}
-		if n != x.links || day != x.fails || latest != x.latest || e != api.OK || f != api.OK || g != api.OK {
+		if n != x.links || day != x.fails || ok != (day != none) || latest != x.latest || ok2 != (latest != none) || e != api.OK || f != api.OK || g != api.OK {
 			t.Errorf("%s: %d, %v; %d, %v, %v; %d, %v, %v", name, n, e, day, ok, f, latest, ok2, g)
 		}
 	}
@@ -138,7 +138,7 @@ func TestErrors(t *testing.T) { // P22.1 to P22.4
 			}
 		}
 	}
-	for _, i := range []api.Item{with(func(*api.Item) {}), with(func(i *api.Item) { i.Until = 1 }), with(func(i *api.Item) { i.Until = api.MaxDay; i.Links[0].Day = 0; i.Links[1].Day = api.MaxDay })} {
+	for _, i := range []api.Item{with(func(*api.Item) {}), with(func(i *api.Item) { i.Purpose = 1 }), with(func(i *api.Item) { i.Purpose = 4 }), with(func(i *api.Item) { i.Until = 1 }), with(func(i *api.Item) { i.Until = api.MaxDay; i.Links[0].Day = 0; i.Links[1].Day = api.MaxDay })} {
 		if e := lifetime.Check(i); e != api.OK {
 			t.Errorf("%v: %v", i, e)
 		}

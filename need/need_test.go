@@ -53,6 +53,9 @@ func TestDerive(t *testing.T) { // P28.1
 	if got, f := need.Derive(e, nil); f != api.OK || len(got) > 0 {
 		t.Errorf("%v, %v", got, f)
 	}
+	if got, f := need.Derive(e, slices.Repeat(l, 4)); f != api.OK || len(got) != 7*16 {
+		t.Errorf("24 changes: %d, %v", len(got), f)
+	}
 	none := append(slices.Clone(l), set(3, 1, 1))
 	for _, x := range []struct {
 		e    api.Estate
@@ -154,7 +157,7 @@ func TestWhy(t *testing.T) { // P28.3
 		l    []api.Change
 		r    api.Required
 		want api.Errno
-	}{{wrong(), slices.Repeat(l, 6), r(-1, 4), api.ErrEstate}, {e, slices.Repeat(l, 6), r(-1, 4), api.ErrLimit}, {e, l, r(-1, 4), api.ErrNeed}, {e, l, r(4, 5), api.ErrNeed}, {e, l, r(0, 4), api.ErrChange}, {e, l, r(4, 0), api.ErrChange}} {
+	}{{wrong(), slices.Repeat(l, 6), r(-1, 4), api.ErrEstate}, {e, slices.Repeat(l, 6), r(-1, 4), api.ErrLimit}, {e, l, r(-1, 4), api.ErrNeed}, {e, l, r(4, 5), api.ErrNeed}, {e, l, r(5, 4), api.ErrNeed}, {e, l, r(9, 0), api.ErrNeed}, {e, l, r(0, -1), api.ErrNeed}, {e, l, r(0, 4), api.ErrChange}, {e, l, r(4, 0), api.ErrChange}} {
 		if got, f := need.Why(x.e, x.l, x.r); f != x.want || len(got) > 0 {
 			t.Errorf("%v: %v, %v", x.r, got, f)
 		}

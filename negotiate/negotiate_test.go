@@ -141,6 +141,12 @@ func TestUses(t *testing.T) { // P20.2
 func TestCommon(t *testing.T) { // P20.3
 	c := client(func(e *api.Endpoint) { e.Most, e.Least, e.Suites = 4, 2, []int{15, 10, 2, 8, 4} })
 	s := server(func(e *api.Endpoint) { e.Most, e.Suites = 4, []int{4, 2, 8, 15, 16} })
+	for _, most := range [][2]int{{2, 3}, {3, 2}} {
+		x, y := client(func(e *api.Endpoint) { e.Most = most[0] }), server(func(e *api.Endpoint) { e.Most = most[1] })
+		if l := negotiate.Common(x, y); !slices.Equal(l, []api.Outcome{out(1, 8), out(2, 8)}) {
+			t.Errorf("%v: %v", most, l)
+		}
+	}
 	if l := negotiate.Common(c, s); !slices.Equal(l, []api.Outcome{out(2, 2), out(2, 8), out(3, 2), out(3, 8), out(4, 15)}) {
 		t.Error(l)
 	}

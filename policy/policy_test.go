@@ -59,6 +59,11 @@ func TestOpen(t *testing.T) { // P27.1
 			t.Errorf("%v: %v, %v", y, l, e)
 		}
 	}
+	for _, day := range []int{0, api.MaxDay} {
+		if l, e := policy.Open(sample.Estate(), parsed(t, "forbid rc4"), nil, api.Owners{}, 0, day); e != api.OK || !slices.Equal(l, low()) {
+			t.Errorf("%d: %v, %v", day, l, e)
+		}
+	}
 	untrusted := with(func(e *api.Estate) { e.Endpoints[0].Anchors = nil })
 	if l, e := policy.Open(untrusted, parsed(t, "forbid rc4"), nil, owners, 0, 5); e != api.OK || !slices.Equal(l, low()) {
 		t.Errorf("trust is not asked: %v, %v", l, e)
