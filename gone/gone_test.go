@@ -161,6 +161,14 @@ func TestErrors(t *testing.T) { // P40.1 and P40.3
 			t.Errorf("%d: %v", i, e)
 		}
 	}
+	for _, day := range []int{0, api.MaxDay} {
+		for _, age := range []int{0, api.MaxAge} {
+			a, e := gone.All(l, 1, day, age, api.MD5, nil, owners())
+			if first, ok, f := gone.First(l, 1, age, api.MD5, nil, owners(), []int{day}); e != api.OK || f != api.OK || len(a) > 0 || first != day || !ok {
+				t.Errorf("%d, %d: %v, %v, %v", day, age, a, e, f)
+			}
+		}
+	}
 	for _, days := range [][]int{{-1}, {1, api.MaxDay + 1}} {
 		if day, ok, e := gone.First(l, 1, 1, 1, nil, owners(), days); e != api.ErrRange || day != 0 || ok {
 			t.Errorf("%v: %v", days, e)

@@ -214,5 +214,7 @@ func TestMemory(t *testing.T) { // R3
 	apart(t, "Apply", func() api.Estate { x, _ := job.Apply(e, p, jobs[0]); return x }, e, p)
 	apart(t, "All", func() api.Estate { x, _, _ := job.All(e, p, jobs); return x }, e, p, jobs)
 	apart(t, "All of none", func() api.Estate { x, _, _ := job.All(e, p, nil); return x }, e, p)
+	many := slices.Repeat(jobs, 61)
+	apart(t, "All of too many", func() api.Estate { x, _, _ := job.All(e, p, many); return x }, e, p, many)
 	apart(t, "Due", func() []int { x, _ := job.Due(e, p); return x }, e, p)
 }

@@ -53,6 +53,9 @@ func TestTeams(t *testing.T) { // P31.1
 	if l, e := plan.Teams(calendar(nothing), changes()); e != api.OK || !slices.Equal(l, []int{0, 1, 0, 0}) {
 		t.Errorf("%v, %v", l, e)
 	}
+	if l, e := plan.Teams(calendar(nothing), slices.Repeat(changes(), 6)); e != api.OK || len(l) != 24 {
+		t.Errorf("%v, %v", l, e)
+	}
 	bad := calendar(func(c *api.Calendar) { c.Room[0] = -1 })
 	none := []api.Change{set(3, 1, 1)}
 	for _, x := range []struct {

@@ -51,7 +51,7 @@ func TestGood(t *testing.T) { // P33.1
 		want     bool
 	}{
 		{nil, 1, 9, true}, {api.Set{0}, 1, 9, true}, {api.Set{0, 1}, 1, 9, false}, {api.Set{1, 2}, 1, 9, true}, {api.Set{0, 2}, 1, 9, true},
-		{api.Set{3}, 1, 9, false}, {api.Set{4}, 1, 9, false}, {nil, 9, 1, false}, {nil, 1, sample.Last, false}, {nil, 1, sample.Last - 1, true}, {nil, sample.Last, sample.Last, false}, {nil, 5, 5, true},
+		{api.Set{3}, 1, 9, false}, {api.Set{4}, 1, 9, false}, {nil, 9, 1, false}, {nil, 1, sample.Last, false}, {nil, 1, sample.Last - 1, true}, {nil, sample.Last, sample.Last, false}, {nil, 5, 5, true}, {nil, 0, 0, true}, {nil, api.MaxDay, api.MaxDay, false},
 	} {
 		if ok, e := planner.Good(sample.Estate(), l, x.s, x.from, x.to); ok != x.want || e != api.OK {
 			t.Errorf("%v: %v, %v", x, ok, e)
@@ -218,6 +218,34 @@ func TestOtherRequirements(t *testing.T) { // P33.3: where Derive does not do, t
 	}
 	if p, _, e := planner.Make(sample.Estate(), calendar(24), many, api.Policy{}, nil, api.Owners{}, 0, 50); e != api.ErrNoPlan || len(p.Days) > 0 {
 		t.Errorf("more than MaxSmall: %v, %v", p, e)
+	}
+}
+
+// TestAsGiven checks that the order as given is tried where no sequence is good from the beginning: the new identity is valid later.
+func TestAsGiven(t *testing.T) { // P33.3
+	id := sample.Identity("db", sample.RSA(), 9, sample.Anchor)
+	id.Chain[0].From = 5
+	id.Chain[0] = sample.Sealed(id.Chain[0], sample.Anchor)
+	l := []api.Change{{Endpoint: 1, Kind: api.AddIdentity, Identity: id}, set(0, api.SetMost, 2), set(0, api.SetMost, 3)}
+	for i := range 7 {
+		l = append(l, set(2, api.AddAnchor, 50+i))
+	}
+	c := calendar(24)
+	c.Windows = []api.Window{{Days: api.Span{From: 10, To: 50}, Teams: []int{0, 1}}}
+	if _, e := planner.Sequence(sample.Estate(), l, 0, 60); e != api.ErrNoPlan {
+		t.Error(e)
+	}
+	p, f, e := planner.Make(sample.Estate(), c, l, api.Policy{}, nil, api.Owners{}, 0, 60)
+	if e != api.OK || len(p.Required) != 9 || !slices.Equal(p.Days, []int{10, 11, 12, 13, 14, 15, 16, 17, 18, 19}) || proof.Check(sample.Estate(), p, 0, 60, f) != api.OK {
+		t.Errorf("%v, %v", p, e)
+	}
+	if _, _, e := planner.Make(sample.Estate(), c, append(l, set(2, api.AddAnchor, 99)), api.Policy{}, nil, api.Owners{}, 0, 60); e != api.ErrNoPlan {
+		t.Errorf("eleven: %v", e)
+	}
+	c.Windows = []api.Window{{Days: api.Span{From: 0, To: 2}, Teams: []int{1}}, {Days: api.Span{From: 2, To: 4}, Teams: []int{0}}}
+	p, _, e = planner.Make(sample.Estate(), c, []api.Change{set(1, api.DropSuite, 2), set(0, api.AddAnchor, 7)}, api.Policy{}, nil, api.Owners{}, 0, 60)
+	if e != api.OK || !slices.Equal(p.Required, []api.Required{r(0, 1)}) || !slices.Equal(p.Days, []int{0, 2}) {
+		t.Errorf("where what is derived finds no days: %v, %v", p, e)
 	}
 }
 

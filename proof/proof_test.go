@@ -173,6 +173,15 @@ func TestErrors(t *testing.T) { // P32.1 to P32.3
 			t.Errorf("%v, %v", e1, e2)
 		}
 	}
+	for _, to := range []int{0, sample.Last - 1, api.MaxDay} {
+		p := api.Plan{Changes: free(2).Changes, Days: []int{0, api.MaxDay}}
+		if _, e := proof.Make(pair(), p, 0, to); (e == api.OK) != (to < sample.Last) {
+			t.Errorf("%d: %v", to, e)
+		}
+		if _, fails, e := proof.Fails(pair(), p, to, to); e != api.OK || fails != (to == api.MaxDay) {
+			t.Errorf("%d: %v, %v", to, fails, e)
+		}
+	}
 	if _, e := proof.Steps(pair(), free(13), bad, make([]api.Exception, 1), api.Owners{}); e != api.ErrRule {
 		t.Error(e)
 	}
@@ -194,6 +203,13 @@ func TestLimits(t *testing.T) { // P32.1 to P32.3: ErrLimit
 	}
 	if n, e := proof.Steps(pair(), free(12), api.Policy{}, nil, api.Owners{}); e != api.OK || len(n) > 0 {
 		t.Errorf("%v, %v", n, e)
+	}
+	most := free(24)
+	for i := range 23 {
+		most.Required = append(most.Required, r(i, i+1))
+	}
+	if s, e := proof.Sets(pair(), most, 0); e != api.OK || len(s) != 25 {
+		t.Errorf("%d, %v", len(s), e)
 	}
 	e := sample.Estate()
 	for edge := range 3 {

@@ -67,6 +67,14 @@ func TestBest(t *testing.T) { // P35.1
 			t.Errorf("%s: %v, %v, %v", name, l, ok, e)
 		}
 	}
+	for purpose := 1; purpose <= api.Purposes; purpose++ {
+		if l, ok, e := renewal.Best(p, []api.Use{ed}, purpose, 3, 4); l != link(api.ED25519, 3) || !ok || e != api.OK {
+			t.Errorf("%d: %v, %v, %v", purpose, l, ok, e)
+		}
+	}
+	if l, e := renewal.Schedule(p, signed(8, link(api.MD5, 1)), nil, api.MaxDay); len(l) > 0 || e != api.OK {
+		t.Errorf("%v, %v", l, e)
+	}
 	bad := api.Policy{Rules: []api.Rule{{}}}
 	for _, x := range []struct {
 		p                 api.Policy

@@ -61,6 +61,9 @@ func TestCheck(t *testing.T) { // P37.1
 	}{
 		"new":  {nothing, api.OK},
 		"done": {func(x *api.Run) { x.Steps = []int{1, 3, 2, 0}; x.Tries = []int{4, 0, 1, 2}; x.Stopped = true }, api.OK},
+		"24": {func(x *api.Run) {
+			*x = api.Run{Plan: api.Plan{Changes: make([]api.Change, 24), Days: make([]int, 24)}, Steps: make([]int, 24), Tries: make([]int, 24)}
+		}, api.OK},
 		"zero": {func(x *api.Run) { *x = api.Run{} }, api.OK},
 		"25": {func(x *api.Run) {
 			*x = api.Run{Plan: api.Plan{Changes: make([]api.Change, 25), Days: make([]int, 25)}, Steps: make([]int, 25), Tries: make([]int, 25)}

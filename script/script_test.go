@@ -176,6 +176,8 @@ func TestTryErrors(t *testing.T) { // P44.2
 		"fault -1":   {w, -1, api.ErrRange},
 		"impossible": {impossible, 0, api.ErrDone},
 		"forbidden":  {do(t, forbidden, act(api.ActDay, 2)), 0, api.ErrForbid},
+		"fault 9":    {do(t, forbidden, act(api.ActDay, 2)), 9, api.ErrRange},
+		"fault -9":   {impossible, -9, api.ErrRange},
 	} {
 		if got, e := script.Do(x.w, try(x.fault)); e != x.want || !script.Same(got, x.w) {
 			t.Errorf("%s: %v", name, e)
@@ -423,6 +425,9 @@ func TestPrint(t *testing.T) { // P44.3
 	if s, e := script.Print(nil); s != "" || e != api.OK {
 		t.Errorf("%q, %v", s, e)
 	}
+	if s, e := script.Print(slices.Repeat([]api.Act{act(api.ActResume, 0)}, 200)); len(s) != 800 || e != api.OK {
+		t.Errorf("%d, %v", len(s), e)
+	}
 	many := slices.Repeat([]api.Act{{}}, 201)
 	if s, e := script.Print(many); s != "" || e != api.ErrLimit {
 		t.Errorf("%v", e)
@@ -573,6 +578,7 @@ func TestMemory(t *testing.T) { // R3
 	for _, a := range []api.Act{act(api.ActDay, 9), try(0), try(9), act(api.ActUndo, 0), id, see("app", 1, 4), act(api.ActCrash, 5), act(api.ActResume, 0)} {
 		apart(t, "Do", func() api.World { x, _ := script.Do(w, a); return x }, w, a)
 	}
+	apart(t, "Do nothing", func() api.World { x, _ := script.Do(w, api.Act{}); return x }, w)
 	apart(t, "Run", func() api.World { x, _ := script.Run(w, []api.Act{id, try(0)}); return x }, w, id)
 	apart(t, "Run nothing", func() api.World { x, _ := script.Run(w, nil); return x }, w)
 	if _, e := finding.Norm(w.Findings); e != api.OK {

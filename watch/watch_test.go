@@ -50,6 +50,11 @@ func TestAll(t *testing.T) { // P38.1
 	if i, e := watch.All(sample.Estate(), l, 7); e != api.OK || len(i) > 0 {
 		t.Errorf("%v, %v", i, e)
 	}
+	for _, day := range []int{0, api.MaxDay} {
+		if i, e := watch.All(sample.Estate(), []api.Finding{find("web", day, api.FindSuite, none(), 8)}, day); e != api.OK || len(i) != 1 {
+			t.Errorf("%d: %v, %v", day, i, e)
+		}
+	}
 	wrong := sample.Estate()
 	wrong.Endpoints[0].Most = 9
 	for _, x := range []struct {

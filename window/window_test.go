@@ -69,6 +69,13 @@ func TestCheck(t *testing.T) { // P30.1
 	if e := window.Check(api.Calendar{}, 0); e != api.OK {
 		t.Error(e)
 	}
+	var most api.Calendar
+	for i := range 32 {
+		most.Windows = append(most.Windows, win(i, i+1))
+	}
+	if e := window.Check(most, 0); e != api.OK {
+		t.Error(e)
+	}
 	full := api.Calendar{Windows: []api.Window{win(0, api.MaxDay+1, 0, 1, 2, 3, 4, 5, 6, 7)}, Room: []int{24, 0, 1, 2, 3, 4, 5, 6}}
 	if e := window.Check(full, 0); e != api.OK {
 		t.Error(e)
