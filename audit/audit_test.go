@@ -5,8 +5,10 @@ import (
 	"cipherplan/audit"
 	"cipherplan/clone"
 	"cipherplan/journal"
+	"cipherplan/planner"
 	"cipherplan/proof"
 	"cipherplan/rule"
+	"cipherplan/runner"
 	"cipherplan/sample"
 	"cipherplan/script"
 	"math"
@@ -110,6 +112,8 @@ func TestKeeps(t *testing.T) { // P45.2
 		{broken, 9, []int{0, 2}, api.OK},
 		{after(w, act(1, sample.Last)), 9, []int{0, 1, 2}, api.OK},
 		{w, -1, nil, api.ErrRange},
+		{w, 0, nil, api.OK},
+		{w, api.MaxDay, []int{0, 1, 2}, api.OK},
 		{w, api.MaxDay + 1, nil, api.ErrRange},
 		{api.World{}, 1, nil, api.OK},
 		{api.World{}, -1, nil, api.ErrRange},
@@ -266,11 +270,52 @@ func TestNoBreach(t *testing.T) {
 		if b != (api.Breach{}) || !script.Same(w, after(begun(t), l...)) {
 			t.Fatalf("%v: %v", l, b)
 		}
-		for k := range l {
-			if broken, e := audit.Keeps(after(begun(t), l[:k]...), 50); e != api.OK || len(broken) > 0 {
-				t.Fatalf("%v: %v, %v", l[:k], broken, e)
+		step := begun(t)
+		for k, a := range l {
+			step, _ = script.Do(step, a)
+			if broken, e := audit.Keeps(step, 50); e != api.OK || len(broken) > 0 {
+				t.Fatalf("%v: %v, %v", l[:k+1], broken, e)
 			}
 		}
+	}
+}
+
+// TestMigration makes a plan that takes rc4 away, carries it out on hosts that fail, and shows that it is gone (T6 to T8).
+func TestMigration(t *testing.T) {
+	law, _, _ := rule.Parse("forbid rc4 from 30")
+	c := api.Calendar{Team: []int{0, 1, 0}, Room: []int{1, 2}}
+	for i := range 10 {
+		c.Windows = append(c.Windows, api.Window{Days: api.Span{From: 3 * i, To: 3*i + 2}, Teams: []int{0, 1}})
+	}
+	changes := append(sample.Plan().Changes, api.Change{Endpoint: 0, Kind: api.DropSuite, Number: 2}, api.Change{Endpoint: 2, Kind: api.DropSuite, Number: 2})
+	p, f, e := planner.Make(sample.Estate(), c, changes, law, nil, api.Owners{}, 1, 60)
+	if e != api.OK || proof.Check(sample.Estate(), p, 1, 60, f) != api.OK {
+		t.Fatalf("%v", e)
+	}
+	w, e := script.New(sample.Estate(), law, nil, api.Owners{}, p, 1)
+	if e != api.OK {
+		t.Fatal(e)
+	}
+	x := rand.New(rand.NewSource(2))
+	for day := 1; day < 40; day++ {
+		l := []api.Act{act(api.ActDay, day), act(api.ActTry, x.Intn(4)), act(api.ActTry, x.Intn(3)), act(api.ActTry, 0)}
+		var b api.Breach
+		if w, b = audit.History(w, l); b != (api.Breach{}) {
+			t.Fatalf("day %d: %v", day, b)
+		}
+		if broken, e := audit.Keeps(w, 60); e != api.OK || len(broken) > 0 {
+			t.Fatalf("day %d: %v, %v", day, broken, e)
+		}
+		if ended := audit.Ended(w, 5, 100, api.RC4); !runner.Finished(w.Run) && ended != api.ErrPlan || runner.Finished(w.Run) && ended != api.OK {
+			t.Fatalf("day %d: %v", day, ended)
+		}
+	}
+	if !runner.Finished(w.Run) {
+		t.Errorf("%v", w.Run)
+	}
+	late, _ := script.Do(w, api.Act{Kind: api.ActObserve, Finding: api.Finding{Source: 6, Host: "db", Day: 38, Confidence: 9, Kind: api.FindSuite, Subject: "tls", Number: 2}})
+	if e := audit.Ended(late, 5, 100, api.RC4); e != api.ErrMethod {
+		t.Errorf("late evidence: %v", e)
 	}
 }
 
