@@ -125,6 +125,45 @@ func TestParseErrors(t *testing.T) { // P7.1
 	}
 }
 
+// goesOn reports whether something can be put behind a text so that it is right.
+func goesOn(text string) bool {
+	for _, word := range []string{"", "\n", "\"", "\"\""} {
+		for _, end := range []string{"", ";", " a;", "a;"} {
+			for k := range 8 {
+				if _, _, e := blocks.Parse(text + word + end + strings.Repeat("}", k)); e == api.OK {
+					return true
+				}
+			}
+		}
+	}
+	return false
+}
+
+func TestFirstError(t *testing.T) { // P7.1: the line is that from which on nothing makes the text right any more
+	r := rand.New(rand.NewSource(5))
+	parts := []string{"a", "b", "\"", "\\", ";", ";", "{", "}", " ", "\n", "#", "$"}
+	for range 10000 {
+		text := ""
+		for range r.Intn(14) {
+			text += parts[r.Intn(len(parts))]
+		}
+		_, n, e := blocks.Parse(text)
+		if e == api.OK {
+			continue
+		}
+		want := strings.Count(text, "\n") + 1
+		for i := range text {
+			if !goesOn(text[:i+1]) {
+				want = strings.Count(text[:i], "\n") + 1
+				break
+			}
+		}
+		if e != api.ErrForm || n != want {
+			t.Fatalf("%q: %d, %v, not %d", text, n, e, want)
+		}
+	}
+}
+
 func TestPrint(t *testing.T) { // P7.2
 	many := func(n int) []api.Block {
 		var l []api.Block
