@@ -247,6 +247,32 @@ func TestAsGiven(t *testing.T) { // P33.3
 	if e != api.OK || !slices.Equal(p.Required, []api.Required{r(0, 1)}) || !slices.Equal(p.Days, []int{0, 2}) {
 		t.Errorf("where what is derived finds no days: %v, %v", p, e)
 	}
+	many := []api.Change{set(1, api.DropSuite, 2)}
+	for i := range 10 {
+		many = append(many, set(0, api.AddAnchor, 50+i))
+	}
+	if p, _, e := planner.Make(sample.Estate(), c, many, api.Policy{}, nil, api.Owners{}, 0, 60); e != api.ErrNoPlan || len(p.Days) > 0 {
+		t.Errorf("eleven, without days: %v, %v", p, e)
+	}
+}
+
+// TestSequenceFirst checks that a sequence comes before the order as given: a suite goes before the identity that it would be served with comes, which is valid later.
+func TestSequenceFirst(t *testing.T) { // P33.3
+	e := sample.Estate()
+	e.Endpoints[0].Suites, e.Endpoints[1].Suites = []int{9, 10, 2}, []int{9, 10, 2}
+	id := sample.Identity("db", api.Use{Alg: api.ECDSA, Bits: 256}, 9, sample.Anchor)
+	id.Chain[0].From = 5
+	id.Chain[0] = sample.Sealed(id.Chain[0], sample.Anchor)
+	l := []api.Change{{Endpoint: 1, Kind: api.AddIdentity, Identity: id}, set(1, api.DropSuite, 9), set(0, api.SetMost, 2), set(0, api.SetMost, 3)}
+	c := calendar(24)
+	c.Windows = []api.Window{{Days: api.Span{From: 10, To: 50}, Teams: []int{0, 1}}}
+	if order, f := planner.Sequence(e, l, 0, 60); f != api.OK || !slices.Equal(order, []int{1, 0, 2, 3}) {
+		t.Errorf("%v, %v", order, f)
+	}
+	p, _, f := planner.Make(e, c, l, api.Policy{}, nil, api.Owners{}, 0, 60)
+	if f != api.OK || !slices.Equal(p.Required, []api.Required{r(0, 2), r(1, 0), r(2, 3)}) {
+		t.Errorf("%v, %v", p.Required, f)
+	}
 }
 
 func TestMakeErrors(t *testing.T) { // P33.3
