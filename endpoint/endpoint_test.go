@@ -208,7 +208,7 @@ func TestSettings(t *testing.T) { // P9.2
 	for text, want := range map[string]struct {
 		n int
 		e api.Errno
-	}{"": {0, api.ErrNone}, "most = 1": {0, api.ErrNone}, "[web]": {0, api.ErrNone}, "[we]\nmost=1": {0, api.ErrNone}, "[web]\nmost = 1\nMost = 2": {3, api.ErrWord}, "[web]\nleast = 0\nmost = 0\nleast = 1": {3, api.ErrValue}, "[web]\nmost = 0\nleast = 0\nmost = 0": {3, api.ErrValue}, "[web]\nsuites =": {2, api.ErrValue}, "[web]\nx = 1": {2, api.ErrWord}, "[web]\nleast =": {2, api.ErrValue}, "[web]\norder =": {2, api.ErrValue}, "[web]\nanchors = 1\t2": {2, api.ErrValue}} {
+	}{"": {0, api.ErrNone}, "most = 1": {0, api.ErrNone}, "[web]": {0, api.ErrNone}, "[we]\nmost=1": {0, api.ErrNone}, "[web]\nmost = 1\nMost = 2": {3, api.ErrWord}, "[web]\nleast = 0\nmost = 0\nleast = 1": {3, api.ErrValue}, "[web]\nmost = 0\nleast = 0\nmost = 0": {3, api.ErrValue}, "[web]\nx = 1": {2, api.ErrWord}, "[web]\nanchors = 1\t2": {2, api.ErrValue}} {
 		if _, n, f := from(text, "web"); n != want.n || f != want.e {
 			t.Errorf("%q: %d, %v", text, n, f)
 		}
@@ -224,6 +224,38 @@ func TestSettings(t *testing.T) { // P9.2
 	}
 	if _, _, f := endpoint.FromSettings(good, "web", nil); f != api.OK {
 		t.Error(f)
+	}
+}
+
+func TestEmptyValues(t *testing.T) { // P9.2: an empty value is a list without words (8), but neither a number nor one of two words
+	none := bare(func(e *api.Endpoint) { e.Suites = nil })
+	for name, l := range map[string][]api.Setting{
+		"alone":       {{Section: "web", Name: "suites"}},
+		"with a line": {{Section: "web", Name: "suites", Line: 2}},
+		"the last":    {{Section: "web", Name: "suites", Value: "low", Line: 2}, {Section: "web", Name: "suites", Line: 3}},
+		"behind none": {{Section: "web", Name: "suites", Value: "x", Line: 2}, {Section: "web", Name: "suites", Line: 3}},
+	} {
+		if e, n, f := endpoint.FromSettings(l, "web", nil); f != api.OK || n != 0 || !endpoint.Same(e, none) {
+			t.Errorf("%s: %v, %d, %v", name, e, n, f)
+		}
+	}
+	if e, n, f := read(t, "suites = "); f != api.OK || n != 0 || !endpoint.Same(e, none) {
+		t.Errorf("%v, %d, %v", e, n, f)
+	}
+	for _, word := range []string{"least", "most", "order", "fallback"} {
+		l := []api.Setting{{Section: "web", Name: "suites", Line: 2}, {Section: "web", Name: word, Line: 3}}
+		if e, n, f := endpoint.FromSettings(l, "web", nil); f != api.ErrValue || n != 3 || !reflect.DeepEqual(e, api.Endpoint{}) {
+			t.Errorf("%s: %v, %d, %v", word, e, n, f)
+		}
+		b := []api.Block{{Words: []string{"server", "web"}, Open: true, Within: []api.Block{{Words: []string{word, ""}, Line: 3}}}}
+		if e, n, f := endpoint.FromBlocks(b, "web", nil); f != api.ErrValue || n != 3 || !reflect.DeepEqual(e, api.Endpoint{}) {
+			t.Errorf("%s: %v, %d, %v", word, e, n, f)
+		}
+	}
+	// An empty value that does not count says nothing.
+	l := []api.Setting{{Section: "web", Name: "suites", Line: 2}, {Section: "web", Name: "suites", Value: "rsa-aes128-sha", Line: 3}}
+	if e, n, f := endpoint.FromSettings(l, "web", nil); f != api.OK || n != 0 || len(e.Suites) != 1 {
+		t.Errorf("%v, %d, %v", e, n, f)
 	}
 }
 

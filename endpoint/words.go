@@ -34,9 +34,6 @@ func valuesOf(s api.Setting) []string {
 	case "keys", "anchors", "hashes":
 		return strings.FieldsFunc(s.Value, func(r rune) bool { return r == ' ' })
 	}
-	if s.Value == "" {
-		return nil // where one word is asked for, there is none
-	}
 	return []string{s.Value}
 }
 
